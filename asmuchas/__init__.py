@@ -1,0 +1,1 @@
+"""Asmuchas: sums of things that nobody measured."""
