@@ -23,7 +23,31 @@ LISTED = {
         "steps": ["rows"], "rank": ["rows"], "multipliers": ["rows", "row"], "is_made": ["rows", "row"],
         "frame": ["rows", "many"], "held_steps": ["rows", "many"],
     },
+    "divisors": {
+        "is_held": ["rows", "row"], "is_made_on": ["rows", "row", "size"], "divisor": ["rows", "row"],
+        "divisors": ["rows", "many"], "multipliers_on": ["rows", "row", "size"], "through": ["rows", "row"],
+        "point": ["rows", "row"],
+    },
+    "told": {"Told": ["self", "things", "tellings"], "renamed": ["told", "names"]},
+    "worths": {
+        "are_worths": ["things", "thing"], "are_worths_on": ["things", "size", "thing"], "fits": ["told", "thing"],
+        "fits_on": ["told", "size", "thing"], "worth": ["worths", "one"], "worth_on": ["worths", "one", "size"],
+        "word_in": ["worths", "pair"], "classes": ["worths", "many"], "misfits": ["told", "worths"],
+        "shifted": ["worths", "number"], "stretched": ["worths", "number"],
+    },
+    "verdicts": {
+        "stands": ["told"], "plain_word": ["told", "pair"], "can_be_alike": ["told", "pairs"],
+        "barring": ["told", "pairs"], "alike_sums": ["told", "many"],
+    },
 }
+METHODS = {
+    ("told", "Told"): {
+        "__eq__": 2, "__len__": 1, "__iter__": 1, "__getitem__": 2, "__or__": 2, "tellings": ["self"],
+        "rows": ["self", "word"], "indexes": ["self", "word"], "is_ordered": ["self"], "is_balanced": ["self"],
+        "with_telling": ["self", "telling"], "without": ["self", "index"], "about": ["self", "things"],
+    },
+}
+PROPERTIES = {("told", "Told"): ["things"]}
 
 
 class Interface(unittest.TestCase):
@@ -36,3 +60,16 @@ class Interface(unittest.TestCase):
                     self.assertEqual(thing.__module__, module.__name__)
                     called = thing.__init__ if inspect.isclass(thing) else thing
                     self.assertEqual(list(inspect.signature(called).parameters), arguments)
+
+    def test_methods_stand_in_the_class_itself(self):
+        for (file, name), methods in METHODS.items():
+            found = vars(getattr(importlib.import_module(f"asmuchas.{file}"), name))
+            for method, arguments in methods.items():
+                with self.subTest(f"{name}.{method}"):
+                    parameters = list(inspect.signature(found[method]).parameters)
+                    self.assertEqual(parameters if isinstance(arguments, list) else len(parameters), arguments)
+
+    def test_properties_stand_in_the_class_itself(self):
+        for (file, name), listed in PROPERTIES.items():
+            found = vars(getattr(importlib.import_module(f"asmuchas.{file}"), name))
+            self.assertTrue(all(isinstance(found[one], property) for one in listed))
