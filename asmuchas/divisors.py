@@ -3,7 +3,7 @@
 from math import gcd
 
 from asmuchas.errors import NotHeld
-from asmuchas.rows import taken, times
+from asmuchas.rows import common, taken, times
 from asmuchas.steps import first_place, is_made, multipliers, steps, turned, units
 
 
@@ -46,9 +46,9 @@ def _chained(numbers):
     chain = list(numbers)
     for place in range(len(chain)):
         for later in range(place + 1, len(chain)):
-            common = gcd(chain[place], chain[later])
-            chain[later] = chain[place] // common * chain[later]
-            chain[place] = common
+            shared = gcd(chain[place], chain[later])
+            chain[later] = chain[place] // shared * chain[later]
+            chain[place] = shared
     return chain
 
 
@@ -115,9 +115,7 @@ def point(rows, row):
     _, left = _cleared(rows, row)
     if not any(left):
         return ()
-    common = 0
-    for part in left:
-        common = gcd(common, part)
+    shared = common(left)
     if left[first_place(left)] < 0:
-        common = -common
-    return tuple([part // common for part in left])
+        shared = -shared
+    return tuple([part // shared for part in left])

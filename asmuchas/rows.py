@@ -1,5 +1,7 @@
 """Rows: tuples with one integer for each thing, and what is worked out with them."""
 
+from math import gcd
+
 
 def row_of(things, pair):
     """Return how often each thing stands in the first sum of a pair less how often in the second one."""
@@ -38,3 +40,24 @@ def dot(one, other):
 def is_balanced(row):
     """Return whether the parts of a row add up to 0."""
     return sum(row) == 0
+
+
+def outcome(row, rows):
+    """Return the row of what a row gives by dot with each of some rows."""
+    return tuple([dot(row, one) for one in rows])
+
+
+def common(row):
+    """Return the greatest common divisor of the parts of a row, 0 if all are 0."""
+    found = 0
+    for part in row:
+        found = gcd(found, part)
+    return found
+
+
+def stacked(rows, number, many):
+    """Return the mixture of rows of many parts with the powers of a number, the last row taken once."""
+    whole = (0,) * many
+    for row in rows:
+        whole = added(times(whole, number), row)
+    return whole

@@ -1,32 +1,27 @@
 """Verdicts on pairs of tellings without heavier ones: what is so in all worths that fit."""
 
 from asmuchas.errors import NothingFits, Ordered
-from asmuchas.rows import dot, row_of
+from asmuchas.rows import outcome, row_of
 from asmuchas.steps import frame
 from asmuchas.words import sums
 
 
-def _outcome(row, free):
-    """Return what a row gives by dot with the rows of a frame: noughts if it is held."""
-    return tuple([dot(row, one) for one in free])
-
-
-def _can_hold(told, rows):
+def can_hold(told, rows):
     """Return whether some worths fit with which further rows give 0."""
-    # of unlike tellings each acts by itself: worths that part one pair and worths that part another one
-    # can be put together so that both are parted
+    # a row is held if it gives noughts with the frame; of unlike tellings each acts by itself: worths that part
+    # one pair and worths that part another one can be put together so that both are parted
     free = frame(told.rows("alike") + rows, len(told.things))
-    return all([any(_outcome(row, free)) for row in told.rows("unlike")])
+    return all([any(outcome(row, free)) for row in told.rows("unlike")])
 
 
 def stands(told):
     """Return whether some worths fit all tellings."""
     if told.is_ordered():
         raise Ordered()
-    return _can_hold(told, [])
+    return can_hold(told, [])
 
 
-def _check_stands(told):
+def check_stands(told):
     """Raise an error unless some worths fit all tellings."""
     if not stands(told):
         raise NothingFits()
@@ -34,17 +29,17 @@ def _check_stands(told):
 
 def plain_word(told, pair):
     """Return the word of a pair: alike, unlike or open."""
-    _check_stands(told)
+    check_stands(told)
     row = row_of(told.things, pair)
-    if not any(_outcome(row, frame(told.rows("alike"), len(told.things)))):
+    if not any(outcome(row, frame(told.rows("alike"), len(told.things)))):
         return "alike"
-    return "open" if _can_hold(told, [row]) else "unlike"
+    return "open" if can_hold(told, [row]) else "unlike"
 
 
 def can_be_alike(told, pairs):
     """Return whether all pairs of a list are alike in some worths that fit."""
-    _check_stands(told)
-    return _can_hold(told, [row_of(told.things, pair) for pair in pairs])
+    check_stands(told)
+    return can_hold(told, [row_of(told.things, pair) for pair in pairs])
 
 
 def _wider(sets, many):
@@ -59,7 +54,7 @@ def _is_within(less, one):
 
 def barring(told, pairs):
     """Return the least sets of pairs of a list that are alike in no worths that fit, as lists of indexes."""
-    _check_stands(told)
+    check_stands(told)
     rows = [row_of(told.things, pair) for pair in pairs]
     barred = []
     possible = [[]]
@@ -68,7 +63,7 @@ def barring(told, pairs):
         some = [one for one in _wider(possible, len(rows)) if not any([_is_within(less, one) for less in barred])]
         possible = []
         for one in some:
-            if _can_hold(told, [rows[index] for index in one]):
+            if can_hold(told, [rows[index] for index in one]):
                 possible.append(one)
             else:
                 barred.append(one)
@@ -77,9 +72,9 @@ def barring(told, pairs):
 
 def alike_sums(told, many):
     """Return the lists of the sums of so many things that are alike in all worths that fit."""
-    _check_stands(told)
+    check_stands(told)
     free = frame(told.rows("alike"), len(told.things))
     found = {}
     for one in sums(told.things, many):
-        found.setdefault(_outcome(row_of(told.things, (one, ())), free), []).append(one)
+        found.setdefault(outcome(row_of(told.things, (one, ())), free), []).append(one)
     return list(found.values())

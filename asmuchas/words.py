@@ -11,6 +11,11 @@ def is_integer(thing):
     return isinstance(thing, int) and not isinstance(thing, bool)
 
 
+def are_integers(thing, many):
+    """Return whether any value is a list of so many integers."""
+    return isinstance(thing, list) and len(thing) == many and all([is_integer(part) for part in thing])
+
+
 def is_name(thing):
     """Return whether any value is a string of one to eight lower-case letters."""
     if not isinstance(thing, str) or not 1 <= len(thing) <= MOST_LETTERS:
@@ -47,6 +52,13 @@ def is_telling(thing):
     if not isinstance(thing, tuple) or len(thing) != 3:
         return False
     return isinstance(thing[0], str) and thing[0] in WORDS and is_pair(thing[1:])
+
+
+def word_ahead(thing):
+    """Return the string that stands first in any value that is a tuple, an empty one if there is none."""
+    if not isinstance(thing, tuple) or len(thing) == 0 or not isinstance(thing[0], str):
+        return ""
+    return thing[0]
 
 
 def sum_of(names):

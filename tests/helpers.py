@@ -4,6 +4,21 @@ import copy
 import unittest
 from fractions import Fraction
 from itertools import product
+from random import Random
+from unittest.mock import ANY
+
+from asmuchas.told import Told
+from asmuchas.words import sums
+
+SIX = ("a", "b", "c", "d", "e", "f")
+LONG = 10 ** 79 + 3
+
+# tellings that stand, that nothing fits, with a heavier one among them, and both of these at once
+SOME = Told(("a", "b", "c", "d"), [("alike", ("a", "b"), ("c", "d")), ("unlike", ("a",), ("c",))])
+BAD = SOME.with_telling(("alike", ("b",), ("d",)))
+ORDERED = SOME.with_telling(("heavier", ("a",), ("b",)))
+BOTH = BAD.with_telling(("heavier", ("a",), ("b",)))
+EMPTY = Told((), [])
 
 
 class Odd:
@@ -79,20 +94,114 @@ def box(many, most):
     return list(product(range(-most, most + 1), repeat=many))
 
 
+def plain_heads(rows):
+    """Return rows of fractions with the same mixtures as rows, each with its first place, which no later one has."""
+    found = []
+    for row in rows:
+        left = plain_left(found, row)
+        place = next((place for place, part in enumerate(left) if part != 0), None)
+        if place is not None:
+            found.append((place, [part / left[place] for part in left]))
+    return found
+
+
+def plain_left(heads, row):
+    """Return what is left of a row when as much of each head is taken that it has 0 at their first places."""
+    left = [Fraction(part) for part in row]
+    for place, head in heads:
+        number = left[place]
+        left = [part - number * less for part, less in zip(left, head)] if number else left
+    return tuple(left)
+
+
 def plain_rank(rows):
     """Return the rank of rows, worked out with fractions."""
-    left = [[Fraction(part) for part in row] for row in rows]
-    found = 0
-    for place in range(len(rows[0]) if rows else 0):
-        heads = [row for row in left if row[place] != 0]
-        if heads:
-            head = heads[0]
-            left.remove(head)
-            left = [[a - b * row[place] / head[place] for a, b in zip(row, head)] for row in left]
-            found += 1
-    return found
+    return len(plain_heads(rows))
 
 
 def plainly_held(rows, row):
     """Return whether row is a mixture of rows with fractions."""
-    return plain_rank(rows + [row]) == plain_rank(rows)
+    return not any(plain_left(plain_heads(rows), row))
+
+
+def stands_plainly(told):
+    """Return whether no unlike telling is held, worked out with fractions."""
+    return not any(plainly_held(told.rows("alike"), row) for row in told.rows("unlike"))
+
+
+def every_sum(things):
+    """Return all sums of things."""
+    return [one for many in range(4) for one in sums(things, many)]
+
+
+def small_tolds(words=("alike", "unlike"), seed=40, things=("a", "b", "c")):
+    """Return Tolds with few small tellings."""
+    chance = Random(seed)
+    some = [one for one in every_sum(things) if len(one) < 3]
+    found = [Told(things, [])]
+    for many in (1, 2, 3, 4) * 20:
+        found.append(Told(things, [(chance.choice(words), chance.choice(some), chance.choice(some))
+                                   for _ in range(many)]))
+    return found
+
+
+def great_tolds(words=("alike", "unlike"), seed=12):
+    """Return Tolds of six things with twelve tellings of all sums."""
+    chance = Random(seed)
+    some = every_sum(SIX)
+    found = []
+    for many in (0, 1, 2, 3, 4, 5, 6, 12) * 4:
+        told = [("alike", chance.choice(some), chance.choice(some)) for _ in range(many)]
+        others = [(chance.choice(words[1:]), chance.choice(some), chance.choice(some)) for _ in range(12 - many)]
+        found.append(Told(SIX, chance.sample(told + others, 12)))
+    return found
+
+
+def above(worths, pair):
+    """Return how much more the first sum of a pair weighs than the second one."""
+    return sum(worths[name] for name in pair[0]) - sum(worths[name] for name in pair[1])
+
+
+def fit(told, worths, size=None):
+    """Return whether worths, on a clock of a size if one is told, fit all tellings."""
+    for word, *pair in told:
+        number = above(worths, pair) if size is None else above(worths, pair) % size
+        if not {"alike": number == 0, "unlike": number != 0, "heavier": number > 0}[word]:
+            return False
+    return True
+
+
+def all_small_worths(things, numbers):
+    """Return all worths of things out of some numbers, ascending."""
+    return [dict(zip(things, row)) for row in product(numbers, repeat=len(things))]
+
+
+def with_truths(value):
+    """Return copies of a value, in each of which a truth stands in the place of one 1 or 0."""
+    if value in (0, 1) and isinstance(value, int):
+        return [bool(value)]
+    found = []
+    if isinstance(value, (list, tuple)):
+        for place, part in enumerate(value):
+            for other in with_truths(part):
+                found.append(type(value)([*value[:place], other, *value[place + 1:]]))
+    if isinstance(value, dict):
+        for key in value:
+            found += [{**value, key: other} for other in with_truths(value[key])]
+    return found
+
+
+def spoiled(paper):
+    """Return values that differ from a paper, a tuple of a word and further parts, in what they are made of."""
+    words = ("alike", "heavier", "lighter", "unlike", "open", "parted")
+    found = [list(paper), paper[:-1], paper + (1,), paper + paper[-1:], paper[1:], paper[:1], (), (paper,), paper[0]]
+    found += [(word, *paper[1:]) for word in words if word != paper[0]] + with_truths(paper) + odd_values()
+    for place in range(len(paper)):
+        # one of these is an object that says of itself to be equal to everything
+        found += [(*paper[:place], other, *paper[place + 1:]) for other in odd_values() + [ANY, [ANY], (ANY,)]]
+        if isinstance(paper[place], list):
+            numbers = paper[place]
+            for other in (numbers + [0], [0] + numbers, numbers[:-1], tuple(numbers), numbers[:-1] + ["0"]):
+                if other != numbers:
+                    found.append((*paper[:place], other, *paper[place + 1:]))
+    return found

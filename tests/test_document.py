@@ -40,28 +40,62 @@ STAGE_3 = r'''
 [[[('o',)], [('a',)], [('b',)]], ('alike', ('z', 'z'), ('x', 'y'))]
 '''
 
-# of the examples of stage 4, what they tell of asmuchas/verdicts.py
-VERDICTS = r'''
->>> from asmuchas.told import Told
+STAGE_4 = r'''
+>>> from asmuchas.freest import free, freest, is_freest
+>>> from asmuchas.papers import is_plain_paper
+>>> from asmuchas.points import missing, point_of, questions_to
 >>> from asmuchas.verdicts import alike_sums, barring, plain_word
 >>> some = Told(("a", "b", "c", "d"), [("alike", ("a", "b"), ("c", "d")), ("unlike", ("a",), ("c",))])
 >>> [plain_word(some, pair) for pair in [(("a", "b"), ("c", "d")), (("b",), ("d",)), (("a",), ("b",)), (("a", "a"), ("c", "c"))]]
 ['alike', 'unlike', 'open', 'unlike']
->>> [barring(some, [(("a",), ("b",)), (("b",), ("c",)), (("b",), ("a",))]), alike_sums(some, 1)]
-[[[0, 1], [1, 2]], [[('a',)], [('b',)], [('c',)], [('d',)]]]
+>>> [is_plain_paper(some, (("b",), ("d",)), ("unlike", 1, 1, -1, [1])), point_of(some, (("b",), ("d",))), point_of(some, (("a",), ("c",)))]
+[True, (0, 1, 0, -1), (0, 1, 0, -1)]
+>>> [barring(some, [(("a",), ("b",)), (("b",), ("c",)), (("b",), ("a",))]), alike_sums(some, 1), free(some)]
+[[[0, 1], [1, 2]], [[('a',)], [('b',)], [('c',)], [('d',)]], 3]
+>>> [is_freest(some, {"a": 0, "b": 0, "c": 1, "d": -1}), is_freest(some, freest(some))]
+[False, True]
+>>> aim = {"a": 1, "b": 2, "c": 0, "d": 3}
+>>> [missing(some, aim), questions_to(some, aim)]
+[1, [('alike', ('a', 'a'), ('b', 'c'))]]
 '''
 
-EXAMPLES = {"stage 1": STAGE_1, "stage 2": STAGE_2, "stage 3": STAGE_3, "verdicts": VERDICTS}
+# of the examples of stage 5, what they tell of asmuchas/clocks.py
+CLOCKS = r'''
+>>> from asmuchas.clocks import all_worths_on, is_alike_on, is_clock_paper, let_through, word_on
+>>> clock_told = Told(("a", "b", "o"), [("alike", ("a", "a"), ("b", "o")), ("alike", ("b", "b"), ("o", "o"))])
+>>> [[is_alike_on(clock_told, (("b",), ("o",)), size) for size in (2, 4, 6, 8)], let_through(clock_told, (("b",), ("o",)))]
+[[True, False, True, False], [4]]
+>>> [is_clock_paper(clock_told, (("b",), ("o",)), 2, ("alike", [1, 0], (-1, 1, 0))), len(all_worths_on(clock_told, 4))]
+[True, 16]
+>>> apart = clock_told.with_telling(("unlike", ("b",), ("o",)))
+>>> word_on(apart, (("a",), ("b",)), 4)
+'unlike'
+>>> three = Told(("a", "b", "c"), [("unlike", ("a",), ("b",)), ("unlike", ("b",), ("c",)), ("unlike", ("a",), ("c",))])
+>>> word_on(three, (("a", "b"), ("c", "c")), 3)
+'alike'
+'''
+
+# in this order: what one stage names may be asked in a later one
+STAGES = {"stage 1": STAGE_1, "stage 2": STAGE_2, "stage 3": STAGE_3, "stage 4": STAGE_4, "clocks": CLOCKS}
+
+
+def run_examples(name, text, known):
+    """Return how many examples of a text fail, what was told of them, and all names behind it."""
+    test = doctest.DocTestParser().get_doctest(text, known, name, None, 0)
+    told = []
+    failed, tried = doctest.DocTestRunner().run(test, out=told.append, clear_globs=False)
+    return failed if tried else 1, "".join(told), test.globs
 
 
 class Examples(unittest.TestCase):
-    def test_examples(self):
-        with open(README, encoding="ascii") as file:
-            readme = file.read()
-        for name, text in [*EXAMPLES.items(), ("README.md", readme)]:
+    def test_examples_of_the_document(self):
+        known = {}
+        for name, text in STAGES.items():
             with self.subTest(name):
-                test = doctest.DocTestParser().get_doctest(text, {}, name, None, 0)
-                self.assertGreater(len(test.examples), 0)
-                told = []
-                failed, _ = doctest.DocTestRunner().run(test, out=told.append)
-                self.assertEqual(failed, 0, "".join(told))
+                failed, told, known = run_examples(name, text, known)
+                self.assertEqual(failed, 0, told)
+
+    def test_examples_of_the_readme(self):
+        with open(README, encoding="ascii") as file:
+            failed, told, _ = run_examples("README.md", file.read(), {})
+        self.assertEqual(failed, 0, told)

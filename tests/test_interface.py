@@ -39,6 +39,18 @@ LISTED = {
         "stands": ["told"], "plain_word": ["told", "pair"], "can_be_alike": ["told", "pairs"],
         "barring": ["told", "pairs"], "alike_sums": ["told", "many"],
     },
+    "freest": {"frame_of": ["told"], "free": ["told"], "freest": ["told"], "is_freest": ["told", "thing"]},
+    "papers": {"plain_paper": ["told", "pair"], "is_plain_paper": ["told", "pair", "thing"]},
+    "points": {
+        "point_of": ["told", "pair"], "points_told": ["told"], "questions_to": ["told", "worths"],
+        "missing": ["told", "worths"],
+    },
+    "clocks": {
+        "is_alike_on": ["told", "pair", "size"], "is_alike_on_all": ["told", "pair"],
+        "is_clock_paper": ["told", "pair", "size", "thing"], "let_through": ["told", "pair"],
+        "parting_on": ["told", "pair", "size"], "clock_paper": ["told", "pair", "size"],
+        "all_worths_on": ["told", "size"], "word_on": ["told", "pair", "size"],
+    },
 }
 METHODS = {
     ("told", "Told"): {

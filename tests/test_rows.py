@@ -1,9 +1,7 @@
 """Rows [22]."""
 
-from asmuchas.rows import added, dot, is_balanced, mixture, row_of, taken, times
-from tests.helpers import Case
-
-LONG = 10 ** 79 + 7
+from asmuchas.rows import added, common, dot, is_balanced, mixture, outcome, row_of, stacked, taken, times
+from tests.helpers import LONG, Case
 
 
 class Rows(Case):
@@ -48,3 +46,18 @@ class Rows(Case):
             self.same(self.answer(is_balanced, row), True)
         for row in [(1,), (1, 1), (2, -1, 0), (LONG, -LONG, 1)]:
             self.same(self.answer(is_balanced, row), False)
+
+    def test_outcome(self):
+        self.same(self.answer(outcome, (1, -1), [(4, 2), (0, LONG), (3, 3)]), (2, -LONG, 0))
+        self.same(self.answer(outcome, (1, -1), []), ())
+        self.same(self.answer(outcome, (), [(), ()]), (0, 0))
+
+    def test_common(self):
+        for row, number in [((), 0), ((0, 0), 0), ((4, -6, 0), 2), ((-5,), 5), ((LONG * 3, 0, -LONG * 5), LONG)]:
+            self.same(self.answer(common, row), number)
+
+    def test_stacked(self):
+        self.same(self.answer(stacked, [(1, 0), (0, 1), (1, 1)], 10, 2), (101, 11))
+        self.same(self.answer(stacked, [(1, -1), (2, 2)], 1, 2), (3, 1))
+        self.same(self.answer(stacked, [], 7, 3), (0, 0, 0))
+        self.same(self.answer(stacked, [()], 7, 0), ())

@@ -2,10 +2,9 @@
 
 from asmuchas.errors import NoTelling, TooMany, Wrong
 from asmuchas.told import Told, renamed
-from tests.helpers import Case, odd_values
+from tests.helpers import SIX, Case, odd_values
 
 THINGS = ("a", "b", "o")
-SIX = ("a", "b", "c", "d", "e", "f")
 LIKE = ("alike", ("a", "a"), ("b", "o"))
 MORE = ("alike", ("b", "b"), ("o", "o"))
 APART = ("unlike", ("b",), ("o",))

@@ -1,6 +1,6 @@
 """Verdicts [40], and what the guarantees [5], [6] and [11] say of them."""
 
-from itertools import combinations, product
+from itertools import combinations
 from random import Random
 
 from asmuchas.divisors import is_held
@@ -10,35 +10,19 @@ from asmuchas.told import Told, renamed
 from asmuchas.verdicts import alike_sums, barring, can_be_alike, plain_word, stands
 from asmuchas.words import pairs, sums
 from asmuchas.worths import fits, word_in
-from tests.helpers import Case, plainly_held
+from tests.helpers import (
+    BAD, BOTH, EMPTY, ORDERED, SIX, SOME, Case, all_small_worths, plainly_held, small_tolds,
+)
 
-SIX = ("a", "b", "c", "d", "e", "f")
-SOME = Told(("a", "b", "c", "d"), [("alike", ("a", "b"), ("c", "d")), ("unlike", ("a",), ("c",))])
-BAD = SOME.with_telling(("alike", ("b",), ("d",)))
-ORDERED = SOME.with_telling(("heavier", ("a",), ("b",)))
-BOTH = BAD.with_telling(("heavier", ("a",), ("b",)))
-EMPTY = Told((), [])
 ASKS = [
     (plain_word, (("a",), ("c",))), (can_be_alike, []), (can_be_alike, [(("a",), ("c",))]), (barring, []),
     (barring, [(("a",), ("c",))]), (alike_sums, 0), (alike_sums, 2),
 ]
 
 
-def small_tolds():
-    """Return Tolds of three things with few small tellings."""
-    chance = Random(40)
-    things = ("a", "b", "c")
-    some = [(one, other) for one, other in product(sums(things, 1) + sums(things, 2) + [()], repeat=2)]
-    found = [Told(things, [])]
-    for many in (1, 2, 3, 4) * 20:
-        found.append(Told(things, [(chance.choice(["alike", "unlike"]), *chance.choice(some)) for _ in range(many)]))
-    return found
-
-
 def small_worths(told):
     """Return the worths from -6 to 6 that fit tellings."""
-    every = [dict(zip(told.things, row)) for row in product(range(-6, 7), repeat=len(told.things))]
-    return [worths for worths in every if fits(told, worths)]
+    return [worths for worths in all_small_worths(told.things, range(-6, 7)) if fits(told, worths)]
 
 
 def alike_in(worths, some):

@@ -4,11 +4,10 @@ from itertools import combinations_with_replacement
 from unittest.mock import ANY
 
 from asmuchas.words import (
-    are_things, in_order, is_integer, is_name, is_pair, is_sum, is_telling, pairs, sum_of, sums,
+    are_integers, are_things, in_order, is_integer, is_name, is_pair, is_sum, is_telling, pairs, sum_of, sums,
+    word_ahead,
 )
-from tests.helpers import Case, odd_values
-
-SIX = ("a", "b", "c", "d", "e", "f")
+from tests.helpers import SIX, Case, odd_values
 
 
 class Kinds(Case):
@@ -49,6 +48,20 @@ class Kinds(Case):
                     ("alike", (("a",), ("b",))), ("alike", ("a", "b"), ("b", "a")), ["alike", (), ()], ("", (), ()),
                     ("alike", (), (), ()), (1, (), ()), ((), (), ()), ("alike", ("a",) * 4, ()), (), ("alike",),
                     (ANY, (), ())])
+
+    def test_are_integers(self):
+        for thing, many, wanted in [
+            ([], 0, True), ([1, -10 ** 79, 0], 3, True), ([1], 2, False), ([1, 2], 1, False), ([True], 1, False),
+            ((1,), 1, False), ([1, None], 2, False), ({1: 1}, 1, False), ("1", 1, False), ([ANY], 1, False),
+        ]:
+            self.same(self.answer(are_integers, thing, many), wanted)
+        for thing in odd_values():
+            self.assertIs(are_integers(thing, 1), False)
+
+    def test_word_ahead(self):
+        for thing, word in [(("alike", 1), "alike"), (("b",), "b"), ((), ""), ((1, "a"), ""), (["a"], ""), ("a", ""),
+                            ((b"a",), ""), ((ANY,), ""), (None, ""), ((("a",),), "")]:
+            self.same(self.answer(word_ahead, thing), word)
 
 
 class Sums(Case):

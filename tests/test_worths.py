@@ -5,10 +5,9 @@ from asmuchas.told import Told
 from asmuchas.worths import (
     are_worths, are_worths_on, classes, fits, fits_on, misfits, shifted, stretched, word_in, worth, worth_on,
 )
-from tests.helpers import Case, odd_values
+from tests.helpers import LONG, Case, odd_values
 
 THINGS = ("a", "b", "o")
-LONG = 10 ** 79 + 3
 TELLINGS = [("alike", ("a", "a"), ("b", "o")), ("alike", ("b", "b"), ("o", "o")), ("unlike", ("b",), ("o",))]
 WRONG = [
     {"a": 1, "b": 2}, {"a": 1, "b": 2, "o": 3, "c": 4}, {"a": 1, "b": 2, "c": 3}, {"a": 1, "b": True, "o": 0},
