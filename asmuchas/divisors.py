@@ -3,7 +3,7 @@
 from math import gcd
 
 from asmuchas.errors import NotHeld
-from asmuchas.rows import common, taken, times
+from asmuchas.rows import shortened, taken, times
 from asmuchas.steps import first_place, is_made, multipliers, steps, turned, units
 
 
@@ -115,7 +115,4 @@ def point(rows, row):
     _, left = _cleared(rows, row)
     if not any(left):
         return ()
-    shared = common(left)
-    if left[first_place(left)] < 0:
-        shared = -shared
-    return tuple([part // shared for part in left])
+    return shortened(left if left[first_place(left)] > 0 else times(left, -1))

@@ -55,6 +55,12 @@ def common(row):
     return found
 
 
+def shortened(row):
+    """Return the row divided by the greatest common divisor of its parts, noughts as they are."""
+    shared = common(row)
+    return tuple([part // shared for part in row]) if shared > 1 else row
+
+
 def stacked(rows, number, many):
     """Return the mixture of rows of many parts with the powers of a number, the last row taken once."""
     whole = (0,) * many

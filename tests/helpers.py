@@ -53,10 +53,10 @@ class Case(unittest.TestCase):
         self.assertEqual(result, expected)
         self.assertEqual(repr(result), repr(expected))
 
-    def answer(self, function, *arguments):
+    def answer(self, function, *arguments, **named):
         """Return what a function returns, and check that the call changes nothing, nor does changing the answer."""
         before = copy.deepcopy(arguments)
-        result = function(*arguments)
+        result = function(*arguments, **named)
         kept = copy.deepcopy(result)
         self.assertEqual(arguments, before)
         changeable = list(changeable_parts(result))
@@ -64,14 +64,14 @@ class Case(unittest.TestCase):
         for part in changeable:
             part.clear()
         self.assertEqual(arguments, before)
-        self.same(function(*arguments), kept)
+        self.same(function(*arguments, **named), kept)
         return kept
 
-    def refuses(self, error, function, *arguments):
+    def refuses(self, error, function, *arguments, **named):
         """Check that a call raises an error of just this class, changing nothing, and return the error."""
         before = copy.deepcopy(arguments)
         with self.assertRaises(error) as caught:
-            function(*arguments)
+            function(*arguments, **named)
         self.assertIs(type(caught.exception), error)
         self.assertEqual(arguments, before)
         return caught.exception
@@ -154,6 +154,21 @@ def great_tolds(words=("alike", "unlike"), seed=12):
         told = [("alike", chance.choice(some), chance.choice(some)) for _ in range(many)]
         others = [(chance.choice(words[1:]), chance.choice(some), chance.choice(some)) for _ in range(12 - many)]
         found.append(Told(SIX, chance.sample(told + others, 12)))
+    return found
+
+
+def true_tolds(seed, counts, things=SIX, most=9):
+    """Return Tolds that some small worths fit, with so many alike, heavier and unlike tellings as counts tell."""
+    chance = Random(seed)
+    some, found = every_sum(things), []
+    for count in counts:
+        worths = {name: chance.randint(-most, most) for name in things}
+        drawn = [(chance.choice(some), chance.choice(some)) for _ in range(3000)]
+        drawn = [pair if above(worths, pair) >= 0 else pair[::-1] for pair in drawn]
+        kinds = {"alike": [pair for pair in drawn if above(worths, pair) == 0 and pair[0] != pair[1]]}
+        kinds["heavier"] = kinds["unlike"] = [pair for pair in drawn if above(worths, pair) > 0]
+        told = [(word, *pair) for word, many in zip(kinds, count) for pair in chance.sample(kinds[word], many)]
+        found.append(Told(things, chance.sample(told, len(told))))
     return found
 
 

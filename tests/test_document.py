@@ -59,24 +59,51 @@ STAGE_4 = r'''
 [1, [('alike', ('a', 'a'), ('b', 'c'))]]
 '''
 
-# of the examples of stage 5, what they tell of asmuchas/clocks.py
-CLOCKS = r'''
+STAGE_5 = r'''
 >>> from asmuchas.clocks import all_worths_on, is_alike_on, is_clock_paper, let_through, word_on
+>>> from asmuchas.sizes import Sizes, sizes_of
 >>> clock_told = Told(("a", "b", "o"), [("alike", ("a", "a"), ("b", "o")), ("alike", ("b", "b"), ("o", "o"))])
 >>> [[is_alike_on(clock_told, (("b",), ("o",)), size) for size in (2, 4, 6, 8)], let_through(clock_told, (("b",), ("o",)))]
 [[True, False, True, False], [4]]
 >>> [is_clock_paper(clock_told, (("b",), ("o",)), 2, ("alike", [1, 0], (-1, 1, 0))), len(all_worths_on(clock_told, 4))]
 [True, 16]
 >>> apart = clock_told.with_telling(("unlike", ("b",), ("o",)))
->>> word_on(apart, (("a",), ("b",)), 4)
-'unlike'
+>>> [word_on(apart, (("a",), ("b",)), 4), sizes_of(apart) == Sizes(0, 4, [4], []), sizes_of(apart)(8), sizes_of(apart).least()]
+['unlike', True, True, 4]
 >>> three = Told(("a", "b", "c"), [("unlike", ("a",), ("b",)), ("unlike", ("b",), ("c",)), ("unlike", ("a",), ("c",))])
->>> word_on(three, (("a", "b"), ("c", "c")), 3)
-'alike'
+>>> [sizes_of(three).bound, sizes_of(three).small(), sizes_of(three)(2), word_on(three, (("a", "b"), ("c", "c")), 3)]
+[3, [3], False, 'alike']
+'''
+
+STAGE_6 = r'''
+>>> from asmuchas.orders import stands_all, word_of, worths_for
+>>> from asmuchas.told import Told
+>>> from asmuchas.weighing import against, is_against, is_paper, paper
+>>> some = Told(("a", "b", "c"), [("alike", ("a", "a"), ("b", "c")), ("heavier", ("b",), ("a",))])
+>>> [word_of(some, (("a",), ("c",))), word_of(some, (("b",), ("c",))), word_of(some, (("a", "b"), ("c", "c")))]
+['heavier', 'heavier', 'heavier']
+>>> [is_paper(some, (("a",), ("c",)), ("heavier", 1, [1, 1])), word_of(some, (("a",), ())), worths_for(some, (("a",), ("b",)), 0)]
+[True, 'open', None]
+>>> parted = Told(("a", "b", "c"), [("alike", ("a", "a"), ("b", "c")), ("unlike", ("b",), ("c",))])
+>>> [word_of(parted, (("a",), ("b",))), paper(parted, (("a",), ("b",)))[0], stands_all(parted)]
+['unlike', 'unlike', True]
+>>> bad = some.with_telling(("heavier", ("c",), ("a",)))
+>>> [stands_all(bad), is_against(bad, [1, 1, 1]), is_against(bad, against(bad)), against(some)]
+[False, True, True, None]
+'''
+
+# of the examples of stage 7, what they tell of asmuchas/plainest.py
+PLAINEST = r'''
+>>> from asmuchas.plainest import plainest
+>>> plainest(parted)
+{'a': 1, 'b': 0, 'c': 2}
 '''
 
 # in this order: what one stage names may be asked in a later one
-STAGES = {"stage 1": STAGE_1, "stage 2": STAGE_2, "stage 3": STAGE_3, "stage 4": STAGE_4, "clocks": CLOCKS}
+STAGES = {
+    "stage 1": STAGE_1, "stage 2": STAGE_2, "stage 3": STAGE_3, "stage 4": STAGE_4, "stage 5": STAGE_5,
+    "stage 6": STAGE_6, "plainest": PLAINEST,
+}
 
 
 def run_examples(name, text, known):

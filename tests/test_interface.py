@@ -51,15 +51,29 @@ LISTED = {
         "parting_on": ["told", "pair", "size"], "clock_paper": ["told", "pair", "size"],
         "all_worths_on": ["told", "size"], "word_on": ["told", "pair", "size"],
     },
+    "sizes": {"Sizes": ["self", "bound", "number", "good", "small"], "sizes_of": ["told", "most"]},
+    "orders": {
+        "stands_all": ["told"], "some_worths": ["told"], "worths_for": ["told", "pair", "sign"],
+        "word_of": ["told", "pair"],
+    },
+    "weighing": {
+        "paper": ["told", "pair"], "is_paper": ["told", "pair", "thing"], "against": ["told"],
+        "is_against": ["told", "thing"],
+    },
+    "plainest": {"plainest": ["told", "most"], "is_plainest": ["told", "thing", "most"]},
 }
+# what stands behind a *, with the value that is told
+KEYWORDS = {("sizes", "sizes_of"): {"most": 12}, ("plainest", "plainest"): {"most": 9},
+            ("plainest", "is_plainest"): {"most": 9}}
 METHODS = {
     ("told", "Told"): {
         "__eq__": 2, "__len__": 1, "__iter__": 1, "__getitem__": 2, "__or__": 2, "tellings": ["self"],
         "rows": ["self", "word"], "indexes": ["self", "word"], "is_ordered": ["self"], "is_balanced": ["self"],
         "with_telling": ["self", "telling"], "without": ["self", "index"], "about": ["self", "things"],
     },
+    ("sizes", "Sizes"): {"__eq__": 2, "__call__": 2, "good": ["self"], "small": ["self"], "least": ["self"]},
 }
-PROPERTIES = {("told", "Told"): ["things"]}
+PROPERTIES = {("told", "Told"): ["things"], ("sizes", "Sizes"): ["bound", "number"]}
 
 
 class Interface(unittest.TestCase):
@@ -71,7 +85,10 @@ class Interface(unittest.TestCase):
                     thing = getattr(module, name)
                     self.assertEqual(thing.__module__, module.__name__)
                     called = thing.__init__ if inspect.isclass(thing) else thing
-                    self.assertEqual(list(inspect.signature(called).parameters), arguments)
+                    parameters = inspect.signature(called).parameters
+                    self.assertEqual(list(parameters), arguments)
+                    keywords = {one.name: one.default for one in parameters.values() if one.kind == one.KEYWORD_ONLY}
+                    self.assertEqual(keywords, KEYWORDS.get((file, name), {}))
 
     def test_methods_stand_in_the_class_itself(self):
         for (file, name), methods in METHODS.items():

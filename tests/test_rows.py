@@ -1,6 +1,8 @@
 """Rows [22]."""
 
-from asmuchas.rows import added, common, dot, is_balanced, mixture, outcome, row_of, stacked, taken, times
+from asmuchas.rows import (
+    added, common, dot, is_balanced, mixture, outcome, row_of, shortened, stacked, taken, times,
+)
 from tests.helpers import LONG, Case
 
 
@@ -55,6 +57,11 @@ class Rows(Case):
     def test_common(self):
         for row, number in [((), 0), ((0, 0), 0), ((4, -6, 0), 2), ((-5,), 5), ((LONG * 3, 0, -LONG * 5), LONG)]:
             self.same(self.answer(common, row), number)
+
+    def test_shortened(self):
+        for row, shorter in [((), ()), ((0, 0), (0, 0)), ((4, -6, 0), (2, -3, 0)), ((-5,), (-1,)), ((3, 2), (3, 2)),
+                             ((LONG * 3, 0, -LONG * 5), (3, 0, -5))]:
+            self.same(self.answer(shortened, row), shorter)
 
     def test_stacked(self):
         self.same(self.answer(stacked, [(1, 0), (0, 1), (1, 1)], 10, 2), (101, 11))
