@@ -5,6 +5,7 @@ from asmuchas.errors import NothingFits
 from asmuchas.freest import frame_of
 from asmuchas.rows import outcome, row_of, stacked
 from asmuchas.verdicts import can_hold
+from asmuchas.words import telling_of
 
 
 def _ways(told):
@@ -22,6 +23,12 @@ def stands_all(told):
     """Return whether some worths fit all tellings, heavier ones among them."""
     _, rays = _ways(told)
     return _stand_in(told, rays)
+
+
+def check_stands_all(told):
+    """Raise an error unless some worths fit all tellings, heavier ones among them."""
+    if not stands_all(told):
+        raise NothingFits()
 
 
 def _found_worths(told):
@@ -46,19 +53,13 @@ def some_worths(told):
     return found
 
 
-def _with_sign(told, pair, sign):
-    """Return the Told with a further telling: that the first sum of a pair is heavier, alike or lighter."""
-    one, other = pair
-    if sign == 0:
-        return told.with_telling(("alike", one, other))
-    return told.with_telling(("heavier", one, other) if sign > 0 else ("heavier", other, one))
-
-
 def worths_for(told, pair, sign):
     """Return worths that fit in which the first sum of a pair is heavier (1), alike (0) or lighter (-1); or None."""
-    if not stands_all(told):
-        raise NothingFits()
-    return _found_worths(_with_sign(told, pair, sign))
+    check_stands_all(told)
+    word = "alike"
+    if sign != 0:
+        word = "heavier" if sign > 0 else "lighter"
+    return _found_worths(told.with_telling(telling_of(word, pair)))
 
 
 def word_of(told, pair):

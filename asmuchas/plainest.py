@@ -1,7 +1,7 @@
 """Plainest worths: of all worths from 0 on that fit balanced tellings, those whose greatest worth is least."""
 
-from asmuchas.errors import NothingFits, TooMany, Unbalanced
-from asmuchas.orders import stands_all
+from asmuchas.errors import TooMany, Unbalanced
+from asmuchas.orders import check_stands_all
 from asmuchas.rows import times
 from asmuchas.worths import are_worths
 
@@ -71,8 +71,7 @@ def plainest(told, *, most=9):
     """Return the plainest worths of balanced tellings."""
     if not told.is_balanced():
         raise Unbalanced()
-    if not stands_all(told):
-        raise NothingFits()
+    check_stands_all(told)
     needs, unlike = _needs(told), told.rows("unlike")
     for greatest in range(most + 1):
         found = _first_row([(0, greatest)] * len(told.things), needs, unlike)

@@ -7,14 +7,7 @@ from asmuchas.divisors import divisors
 from asmuchas.errors import Ordered, TooMany, Wrong
 from asmuchas.freest import frame_of
 from asmuchas.rows import common, outcome
-from asmuchas.words import is_integer
-
-
-def _is_rising(thing, least, most):
-    """Return whether any value is an ascending list of different integers from least to most."""
-    if not isinstance(thing, list) or not all([is_integer(part) for part in thing]):
-        return False
-    return thing == sorted(set(thing)) and (thing == [] or least <= thing[0] and thing[-1] <= most)
+from asmuchas.words import is_integer, is_rising
 
 
 def _next_size(part, number, above):
@@ -34,9 +27,9 @@ class Sizes:
             raise Wrong(0)
         if not is_integer(number) or number < 1:
             raise Wrong(1)
-        if not _is_rising(good, 1, number) or any([number % part != 0 for part in good]):
+        if not is_rising(good, 1, number) or any([number % part != 0 for part in good]):
             raise Wrong(2)
-        if not _is_rising(small, 2, bound):
+        if not is_rising(small, 2, bound):
             raise Wrong(3)
         self._bound = bound
         self._number = number

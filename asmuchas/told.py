@@ -2,12 +2,13 @@
 
 from asmuchas.errors import NoTelling, TooMany, Wrong
 from asmuchas.rows import row_of
+from asmuchas.sets import is_within
 from asmuchas.words import MOST_THINGS, are_things, is_integer, is_telling, sum_of
 
 
 def _stands_in(things, telling):
     """Return whether all names of a telling are of some things."""
-    return all([name in things for name in telling[1] + telling[2]])
+    return is_within(telling[1] + telling[2], things)
 
 
 def is_telling_of(things, thing):

@@ -2,6 +2,7 @@
 
 from asmuchas.errors import NothingFits, Ordered
 from asmuchas.rows import outcome, row_of
+from asmuchas.sets import least_sets
 from asmuchas.steps import frame
 from asmuchas.words import sums
 
@@ -42,32 +43,11 @@ def can_be_alike(told, pairs):
     return can_hold(told, [row_of(told.things, pair) for pair in pairs])
 
 
-def _wider(sets, many):
-    """Return the ascending lists of numbers below many with one more, greater, number behind one of the sets."""
-    return [one + [index] for one in sets for index in range(one[-1] + 1 if one else 0, many)]
-
-
-def _is_within(less, one):
-    """Return whether all numbers of a list stand in another one."""
-    return all([index in one for index in less])
-
-
 def barring(told, pairs):
     """Return the least sets of pairs of a list that are alike in no worths that fit, as lists of indexes."""
     check_stands(told)
     rows = [row_of(told.things, pair) for pair in pairs]
-    barred = []
-    possible = [[]]
-    # a least set has no barred set within it: it is a possible set and one index more
-    while possible:
-        some = [one for one in _wider(possible, len(rows)) if not any([_is_within(less, one) for less in barred])]
-        possible = []
-        for one in some:
-            if can_hold(told, [rows[index] for index in one]):
-                possible.append(one)
-            else:
-                barred.append(one)
-    return barred
+    return least_sets(len(rows), lambda some: not can_hold(told, [rows[index] for index in some]))
 
 
 def alike_sums(told, many):

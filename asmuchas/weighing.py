@@ -1,9 +1,8 @@
 """Weighing: numbers of tellings that show the word of a pair, and numbers against tellings that do not stand."""
 
 from asmuchas.cones import clash
-from asmuchas.errors import NothingFits
 from asmuchas.freest import frame_of
-from asmuchas.orders import stands_all, word_of, worths_for
+from asmuchas.orders import check_stands_all, word_of, worths_for
 from asmuchas.papers import shown, shown_unlike
 from asmuchas.rows import mixture, row_of, times
 from asmuchas.words import are_integers, is_integer, word_ahead
@@ -122,8 +121,7 @@ def _shows_open(told, pair, thing):
 
 def is_paper(told, pair, thing):
     """Return whether any value is a paper of a pair."""
-    if not stands_all(told):
-        raise NothingFits()
+    check_stands_all(told)
     word = word_ahead(thing)
     if word in ("alike", "heavier", "lighter") and len(thing) == 3:
         return _shows(told, pair, word, thing[1], thing[2])

@@ -16,6 +16,13 @@ def are_integers(thing, many):
     return isinstance(thing, list) and len(thing) == many and all([is_integer(part) for part in thing])
 
 
+def is_rising(thing, least, most):
+    """Return whether any value is an ascending list of different integers from least to most."""
+    if not isinstance(thing, list) or not all([is_integer(part) for part in thing]):
+        return False
+    return thing == sorted(set(thing)) and (thing == [] or least <= thing[0] and thing[-1] <= most)
+
+
 def is_name(thing):
     """Return whether any value is a string of one to eight lower-case letters."""
     if not isinstance(thing, str) or not 1 <= len(thing) <= MOST_LETTERS:
@@ -59,6 +66,14 @@ def word_ahead(thing):
     if not isinstance(thing, tuple) or len(thing) == 0 or not isinstance(thing[0], str):
         return ""
     return thing[0]
+
+
+def telling_of(word, pair):
+    """Return the tuple that tells a word, any value, of a pair: with lighter that the other sum is heavier."""
+    one, other = pair
+    if isinstance(word, str) and word == "lighter":
+        return "heavier", other, one
+    return word, one, other
 
 
 def sum_of(names):

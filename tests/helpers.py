@@ -8,7 +8,7 @@ from random import Random
 from unittest.mock import ANY
 
 from asmuchas.told import Told
-from asmuchas.words import sums
+from asmuchas.words import pairs, sums
 
 SIX = ("a", "b", "c", "d", "e", "f")
 LONG = 10 ** 79 + 3
@@ -172,6 +172,20 @@ def true_tolds(seed, counts, things=SIX, most=9):
     return found
 
 
+def balanced_tolds(seed, things, words=("alike", "heavier", "heavier", "unlike")):
+    """Return Tolds of at least two things with few balanced tellings."""
+    chance = Random(seed)
+    some = [pair for many in (1, 2, 2, 3) for pair in pairs(things, many)]
+    found = [Told(things, [])]
+    for many in (1, 2, 3, 4, 5) * 16:
+        told = []
+        for _ in range(many):
+            word, pair = chance.choice(words), chance.choice(some)
+            told.append((word, *pair[::chance.choice([1, -1])]))
+        found.append(Told(things, told))
+    return found
+
+
 def above(worths, pair):
     """Return how much more the first sum of a pair weighs than the second one."""
     return sum(worths[name] for name in pair[0]) - sum(worths[name] for name in pair[1])
@@ -189,6 +203,25 @@ def fit(told, worths, size=None):
 def all_small_worths(things, numbers):
     """Return all worths of things out of some numbers, ascending."""
     return [dict(zip(things, row)) for row in product(numbers, repeat=len(things))]
+
+
+def flat_tellings(things, words=("alike", "heavier", "unlike")):
+    """Return all tellings of sums of at most one of some things."""
+    some = [()] + [(name,) for name in things]
+    return [(word, one, other) for word in words for one in some for other in some]
+
+
+def flat_worths(told):
+    """Return worths that fit tellings of sums of at most one thing, in which things and 0 stand in all such orders."""
+    numbers = range(-len(told.things), len(told.things) + 1)
+    return [worths for worths in all_small_worths(told.things, numbers) if fit(told, worths)]
+
+
+def flat_word(fitting, pair):
+    """Return the word of a pair of sums of at most one thing, by all of the flat worths that fit."""
+    signs = {(number > 0) - (number < 0) for number in [above(worths, pair) for worths in fitting]}
+    words = {(0,): "alike", (1,): "heavier", (-1,): "lighter", (-1, 1): "unlike", (-1, 0, 1): "open"}
+    return words[tuple(sorted(signs))]
 
 
 def with_truths(value):

@@ -1,14 +1,12 @@
 """Plainest worths [70], and what the guarantee [11] says of them."""
 
 from itertools import combinations
-from random import Random
 
 from asmuchas.errors import NothingFits, TooMany, Unbalanced
 from asmuchas.orders import stands_all
 from asmuchas.plainest import is_plainest, plainest
 from asmuchas.told import Told, renamed
-from asmuchas.words import pairs
-from tests.helpers import EMPTY, LONG, SIX, Case, all_small_worths, fit, odd_values, with_truths
+from tests.helpers import EMPTY, LONG, SIX, Case, all_small_worths, balanced_tolds, fit, odd_values, with_truths
 
 FIVE = SIX[:5]
 PARTED = Told(("a", "b", "c"), [("alike", ("a", "a"), ("b", "c")), ("unlike", ("b",), ("c",))])
@@ -27,20 +25,6 @@ def plain_plainest(told, most):
             if fit(told, worths):
                 return worths
     return None
-
-
-def balanced_tolds(seed, things):
-    """Return Tolds with few balanced tellings of all words."""
-    chance = Random(seed)
-    some = [pair for many in (1, 2, 2, 3) for pair in pairs(things, many)]
-    found = [Told(things, [])]
-    for many in (1, 2, 3, 4, 5) * 16:
-        told = []
-        for _ in range(many):
-            word, pair = chance.choice(["alike", "heavier", "heavier", "unlike"]), chance.choice(some)
-            told.append((word, *pair[::chance.choice([1, -1])]))
-        found.append(Told(things, told))
-    return found
 
 
 class Errors(Case):
