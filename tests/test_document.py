@@ -92,17 +92,49 @@ STAGE_6 = r'''
 [False, True, True, None]
 '''
 
-# of the examples of stage 7, what they tell of asmuchas/plainest.py
-PLAINEST = r'''
+STAGE_7 = r'''
+>>> from asmuchas.forms import form, has_one_form, one_form, turned_about
 >>> from asmuchas.plainest import plainest
->>> plainest(parted)
-{'a': 1, 'b': 0, 'c': 2}
+>>> from asmuchas.readback import alikes_of, freedom, has_even_steps, sum_count, worths_with
+>>> [plainest(parted), form({"a": 7, "b": 3, "c": 11}), turned_about({"a": 0, "b": 1, "c": 3}), one_form(parted)]
+[{'a': 1, 'b': 0, 'c': 2}, {'a': 1, 'b': 0, 'c': 2}, {'a': 3, 'b': 2, 'c': 0}, {'a': 1, 'b': 0, 'c': 2}]
+>>> [has_one_form(parted), has_one_form(Told(("a", "b", "c"), [])), alikes_of({"a": 1, "b": 0, "c": 2}, 2)]
+[True, False, [('alike', ('a', 'a'), ('b', 'c'))]]
+>>> [freedom({"a": 1, "b": 0, "c": 2}, 2), sum_count({"a": 1, "b": 0, "c": 2}, 2), has_even_steps({"a": 1, "b": 0, "c": 2})]
+[2, 5, True]
+>>> worths_with(("a", "b"), [[("a", "a")], [("b", "b")], [("a", "b")]])
+{'a': 0, 'b': 1}
+'''
+
+STAGE_8 = r'''
+>>> from asmuchas.blame import clashes, fewest_wrong, repairs
+>>> from asmuchas.joins import news, tells_more
+>>> from asmuchas.questions import best_question, settled
+>>> [clashes(bad), repairs(bad), fewest_wrong(some)]
+[[(0, 1, 2)], [(0,), (1,), (2,)], ()]
+>>> here, there = Told(("a", "b"), []), Told(("a", "b", "z"), [("alike", ("a",), ("z",)), ("alike", ("b",), ("z",))])
+>>> [tells_more(here, there), news(here, there, [(("a",), ("b",)), (("a",), ())])]
+[True, [((('a',), ('b',)), 'open', 'alike')]]
+>>> both = [(("a",), ("b",)), (("a", "a"), ("b", "b"))]
+>>> [settled(here, both[0], both), best_question(here, both), settled(some, (("a",), ("c",)), both)]
+[{'alike': 2, 'heavier': 2, 'lighter': 2}, ((('a',), ('b',)), 2), {'heavier': 0}]
+'''
+
+STAGE_9 = r'''
+>>> from asmuchas.book import Book
+>>> from asmuchas.desk import Desk
+>>> from asmuchas.readers import read_telling, read_worths
+>>> desk = Desk(("a", "b", "c"))
+>>> [desk.say(line) for line in ["a + a = b + c", "b > a", "word a ? c", "cause b > c", "strike 0", "word a ? c", "undo", "free"]]
+['1 told', '2 told', 'heavier', 'fits', '1 told', 'open', 'strike 0', '2']
+>>> [read_telling("a + b != 0"), read_worths("a 3, b -2"), desk.book().word((("b",), ("c",)))]
+[('unlike', ('a', 'b'), ()), {'a': 3, 'b': -2}, 'heavier']
 '''
 
 # in this order: what one stage names may be asked in a later one
 STAGES = {
     "stage 1": STAGE_1, "stage 2": STAGE_2, "stage 3": STAGE_3, "stage 4": STAGE_4, "stage 5": STAGE_5,
-    "stage 6": STAGE_6, "plainest": PLAINEST,
+    "stage 6": STAGE_6, "stage 7": STAGE_7, "stage 8": STAGE_8, "stage 9": STAGE_9,
 }
 
 

@@ -61,10 +61,35 @@ LISTED = {
         "is_against": ["told", "thing"],
     },
     "plainest": {"plainest": ["told", "most"], "is_plainest": ["told", "thing", "most"]},
+    "forms": {
+        "form": ["worths"], "turned_about": ["worths"], "same_form": ["one", "other"], "has_one_form": ["told"],
+        "one_form": ["told"],
+    },
+    "readback": {
+        "alikes_of": ["worths", "many"], "freedom": ["worths", "many"], "sum_count": ["worths", "many"],
+        "has_even_steps": ["worths"], "worths_with": ["things", "some_classes", "most"],
+    },
+    "blame": {
+        "clashes": ["told"], "repairs": ["told"], "surely_wrong": ["told"], "maybe_wrong": ["told"],
+        "fewest_wrong": ["told"], "is_clash": ["told", "thing"], "is_repair": ["told", "thing"],
+        "are_apart_sets": ["told", "thing"],
+    },
+    "joins": {"tells_more": ["one", "other"], "news": ["one", "other", "some"]},
+    "questions": {"settled": ["told", "pair", "some"], "best_question": ["told", "some"]},
+    "book": {"is_entry": ["things", "thing"], "Book": ["self", "things"]},
+    "notation": {
+        "show_sum": ["one"], "show_pair": ["pair"], "show_telling": ["telling"], "show_told": ["told"],
+        "show_entry": ["entry"], "show_book": ["book"], "show_worths": ["worths"],
+    },
+    "readers": {
+        "read_sum": ["text"], "read_pair": ["text"], "read_telling": ["text"], "read_told": ["text"],
+        "read_entry": ["text"], "read_book": ["text"], "read_worths": ["text"],
+    },
+    "desk": {"Desk": ["self", "things"]},
 }
 # what stands behind a *, with the value that is told
 KEYWORDS = {("sizes", "sizes_of"): {"most": 12}, ("plainest", "plainest"): {"most": 9},
-            ("plainest", "is_plainest"): {"most": 9}}
+            ("plainest", "is_plainest"): {"most": 9}, ("readback", "worths_with"): {"most": 9}}
 METHODS = {
     ("told", "Told"): {
         "__eq__": 2, "__len__": 1, "__iter__": 1, "__getitem__": 2, "__or__": 2, "tellings": ["self"],
@@ -72,8 +97,16 @@ METHODS = {
         "with_telling": ["self", "telling"], "without": ["self", "index"], "about": ["self", "things"],
     },
     ("sizes", "Sizes"): {"__eq__": 2, "__call__": 2, "good": ["self"], "small": ["self"], "least": ["self"]},
+    ("book", "Book"): {
+        "__eq__": 2, "__len__": 1, "__iter__": 1, "__setitem__": 3, "word": ["self", "pair"], "log": ["self"],
+        "do": ["self", "entry"], "cause": ["self", "entry"], "undo": ["self"], "redo": ["self"],
+        "past": ["self", "many"], "copied": ["self"], "trial": ["self", "act"],
+    },
+    ("desk", "Desk"): {"book": ["self"], "say": ["self", "line"]},
 }
-PROPERTIES = {("told", "Told"): ["things"], ("sizes", "Sizes"): ["bound", "number"]}
+PROPERTIES = {
+    ("told", "Told"): ["things"], ("sizes", "Sizes"): ["bound", "number"], ("book", "Book"): ["things", "told"],
+}
 
 
 class Interface(unittest.TestCase):
